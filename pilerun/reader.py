@@ -17,7 +17,7 @@ def is_many(thing):
 
 def is_rule_list(thing, many):
     """Whether it is a list of rules as a machine with so many states may have them."""
-    if type(thing) != list or len(thing) > MOST_RULES:
+    if type(thing) is not list or len(thing) > MOST_RULES:
         return False
     return all(is_rule(rule, many) for rule in thing)
 
@@ -33,7 +33,7 @@ def is_arrow(thing, weights):
         return False
     room, sign, other = thing
     # The parts are asked first: a dict finds True and 1.0 where 1 stands, and fails over a list.
-    return is_number(room) and type(sign) == str and is_number(other) and thing in weights
+    return is_number(room) and type(sign) is str and is_number(other) and thing in weights
 
 
 class Reader:

@@ -2,11 +2,12 @@
 
 # Kinds are compared, not asked with isinstance: True and False would pass there as numbers,
 # and a kind made from a tuple, a list or a string could change after it was handed in.
+# They are compared by "is": with "==" the class of what is handed in would have its own say.
 
 
 def is_number(thing):
     """Whether it is a whole number; True and False are none."""
-    return type(thing) == int
+    return type(thing) is int
 
 
 def is_state(thing, many):
@@ -17,17 +18,17 @@ def is_state(thing, many):
 def is_sign(thing):
     """Whether it is a sign."""
     # A longer text may stand between "a" and "z", too.
-    return type(thing) == str and len(thing) == 1 and "a" <= thing <= "z"
+    return type(thing) is str and len(thing) == 1 and "a" <= thing <= "z"
 
 
 def is_pile(thing):
     """Whether it is a text of signs."""
-    return type(thing) == str and all(is_sign(sign) for sign in thing)
+    return type(thing) is str and all(is_sign(sign) for sign in thing)
 
 
 def is_tuple(thing, length):
     """Whether it is a tuple of so many parts."""
-    return type(thing) == tuple and len(thing) == length
+    return type(thing) is tuple and len(thing) == length
 
 
 def is_rule(thing, many):

@@ -124,28 +124,68 @@ class Shy:
         raise RuntimeError("tested")
 
 
+class Alike(type):
+    """The kind of a class that says of itself that it is each other class."""
+
+    def __eq__(cls, other):
+        return True
+
+    def __ne__(cls, other):
+        return False
+
+    def __hash__(cls):
+        return 0
+
+
+class Untold(type):
+    """The kind of a class that fails over being compared."""
+
+    def __eq__(cls, other):
+        raise RuntimeError("compared")
+
+    def __ne__(cls, other):
+        raise RuntimeError("compared")
+
+    def __hash__(cls):
+        raise RuntimeError("hashed")
+
+
+def odd(base, *handed):
+    """Things of classes made from the base which say on their own how they compare with other classes."""
+    return [kind("Odd", (base,), {})(*handed) for kind in (Alike, Untold)]
+
+
+def odd_things():
+    """Such things of every base, each of them what is wanted somewhere but for its class."""
+    rule = (0, "a", 0, "")
+    things = odd(object) + odd(int, 1) + odd(str, "a") + odd(list) + odd(list, [rule])
+    return things + odd(tuple, rule) + odd(tuple, rule[:3]) + odd(tuple, rule[:2])
+
+
 def wrong_things():
     """Things that are no rule, no spot, no arrow, no number from 1 to 5 and no list of rules."""
     return [
         None, True, False, 0, -1, 6, 10 ** 30, 1.0, 2.5, float("nan"), 1j, "", "a", "ab", b"a", (), ((),), [[]],
         [None], {}, {0: "a"}, set(), frozenset(), object(), int, len, range(3), Shy(), (Shy(), Shy()), [Shy()],
         (Shy(), Shy(), Shy()), (Shy(), Shy(), Shy(), Shy()), bytearray(b"a"), iter([]), lambda: 0, "0a0", "0a0b",
-    ]
+    ] + odd_things()
 
 
 def wrong_numbers(many):
     """Things that are no state and no room where there are so many."""
     return [True, False, -1, many, many + 1, 10 ** 30, -10 ** 30, 0.0, 1.0, None, "", "0", b"0", (), (0,), [], [0], {},
-            object(), Shy()]
+            object(), Shy()] + odd(object) + odd(int, 0)
 
 
 def wrong_signs():
     """Things that are no sign."""
     return ["", "ab", "aa", "A", "Z", "0", " ", "`", "{", "-", "\n", "a\n", "\xe4", "\xaa", "\u0430", "\uff41",
-            "\u0131", "\ud800", "\x00", None, True, 0, 97, 1.5, b"a", ["a"], ("a",), {"a": 1}, object(), Shy()]
+            "\u0131", "\ud800", "\x00", None, True, 0, 97, 1.5, b"a", ["a"], ("a",), {"a": 1}, object(), Shy()
+            ] + odd(object) + odd(str, "a")
 
 
 def wrong_piles():
     """Things that are no text of signs."""
     return ["A", "aB", "a b", "ab ", " ", "\n", "a\n", "a1", "\xe4", "a\xe4", "\u0430", "\ud800", "a-", "`", "{",
-            "\x00", None, True, False, 0, 1, 2.5, b"", b"ab", [], ["a"], (), ("a", "b"), {}, {"a": 1}, object(), Shy()]
+            "\x00", None, True, False, 0, 1, 2.5, b"", b"ab", [], ["a"], (), ("a", "b"), {}, {"a": 1}, object(), Shy()
+            ] + odd(object) + odd(str, "a")

@@ -16,6 +16,7 @@ METHODS = set("""append clear copy count endswith extend find get index insert i
 WORDS = set("""register mro elements open input law version_info with_traceback add_note attrgetter breakpoint builtins
     compile copyright credits delattr dir eval exec exit gc globals help id importlib license locals methodcaller os
     quit vars sys typing enum Enum namedtuple dataclass""".split())
+KINDS = set("int str bool list tuple dict set".split())
 TOP = (ast.ImportFrom, ast.FunctionDef, ast.ClassDef, ast.Assign)
 # The language allows some of these in places; the package needs none of them.
 BARRED = (ast.AsyncFunctionDef, ast.Await, ast.Global, ast.Nonlocal, ast.Import, ast.Lambda, ast.Yield, ast.YieldFrom,
@@ -45,6 +46,10 @@ def bound_names(tree):
         elif isinstance(node, ast.Name) and isinstance(node.ctx, ast.Store):
             names.append(node.id)
     return names
+
+
+def is_type_call(node):
+    return isinstance(node, ast.Call) and isinstance(node.func, ast.Name) and node.func.id == "type"
 
 
 class FilesTest(unittest.TestCase):
@@ -106,17 +111,22 @@ class CodeTest(unittest.TestCase):
             self.assertNotIsInstance(node.value, (float, complex))
             self.assertNotIn("%", str(node.value))
 
-    def test_is_stands_beside_none_true_and_false(self):
+    def test_is_stands_beside_none_true_and_false_and_between_kinds(self):
         for path, node in nodes(ast.Compare):
             for sign, right in zip(node.ops, node.comparators):
-                if isinstance(sign, (ast.Is, ast.IsNot)):
+                if isinstance(sign, (ast.Is, ast.IsNot)) and not is_type_call(node.left):
                     self.assertIsInstance(right, ast.Constant, (path, node.lineno))
 
-    def test_type_stands_in_a_comparison_alone(self):
-        asked = [node.left for _, node in nodes(ast.Compare)]
-        for path, node in nodes(ast.Call):
-            if isinstance(node.func, ast.Name) and node.func.id == "type":
-                self.assertIn(ast.dump(node), [ast.dump(one) for one in asked], (path, node.lineno))
+    def test_type_stands_before_is_and_a_kind_alone(self):
+        asked = 0
+        for path, node in nodes(ast.Compare):
+            if is_type_call(node.left):
+                asked += 1
+                self.assertEqual(len(node.ops), 1, (path, node.lineno))
+                self.assertIsInstance(node.ops[0], (ast.Is, ast.IsNot), (path, node.lineno))
+                self.assertIsInstance(node.comparators[0], ast.Name, (path, node.lineno))
+                self.assertIn(node.comparators[0].id, KINDS, (path, node.lineno))
+        self.assertEqual(len([node for _, node in nodes(ast.Name) if node.id == "type"]), asked)
 
     def test_names(self):
         for path, tree in trees():
